@@ -1,0 +1,1 @@
+"""Court: which work counts where."""

@@ -1,0 +1,133 @@
+"""The package keeps to a small part of Python; this asks what a walk over its files can see of that."""
+
+import ast
+import builtins
+import pathlib
+import re
+import unittest
+
+PACKAGE = pathlib.Path(__file__).resolve().parent.parent / "court"
+
+OWN_NAMES = set(
+    "len range enumerate zip min max sum abs sorted reversed int str bool list tuple dict set frozenset isinstance ord"
+    " repr any all divmod Exception ValueError TypeError KeyError IndexError LookupError ZeroDivisionError"
+    " ArithmeticError OverflowError RuntimeError NotImplementedError AttributeError StopIteration".split()
+)
+METHODS = set(
+    "append clear copy count endswith extend find get index insert isalnum isalpha isdigit islower isspace isupper"
+    " items join keys ljust lower lstrip partition pop remove replace reverse rfind rjust rpartition rsplit rstrip"
+    " setdefault split splitlines startswith strip update upper values zfill bit_length".split()
+)
+DUNDERS = {"__init__", "__eq__", "__repr__", "__str__", "__len__"}
+NODES = (
+    "With AsyncWith Match Delete Global Nonlocal Assert Yield YieldFrom Await AsyncFor AsyncFunctionDef TryStar Div"
+    " SetComp DictComp GeneratorExp NamedExpr Starred MatMult Import AnnAssign TypeAlias"
+).split()
+BANNED_NODES = tuple(getattr(ast, name) for name in NODES if hasattr(ast, name))
+BANNED_NAMES = set(
+    "register mro elements open input version_info with_traceback add_note attrgetter breakpoint builtins compile"
+    " copyright credits delattr dir eval exec exit gc getattr globals hasattr help id importlib license locals"
+    " methodcaller os quit setattr super vars sys chr print format format_map".split()
+)
+BANNED_WORDS = re.compile(
+    r"\b(type|typing|typing_extensions|enum|Enum|IntEnum|StrEnum|Flag|IntFlag|Generic|Protocol|ABC|ABCMeta|namedtuple"
+    r"|NamedTuple|TypedDict|TYPE_CHECKING|abstractmethod)\b|dataclass|overload|contextmanager"
+)
+
+
+def read_package():
+    found = []
+    for path in sorted(PACKAGE.glob("*.py")):
+        source = path.read_bytes().decode("utf-8")
+        found.append((path.name, source, ast.parse(source)))
+    return found
+
+
+def walk_package(*kinds):
+    return [(name, node) for name, _, tree in read_package() for node in ast.walk(tree) if isinstance(node, kinds)]
+
+
+class Files(unittest.TestCase):
+    def test_names(self):
+        names = [path.name for path in PACKAGE.iterdir() if path.name != "__pycache__"]
+        self.assertIn("__init__.py", names)
+        for name in names:
+            self.assertRegex(name, r"\A(__init__|[a-z][a-z0-9_]*)\.py\Z")
+
+    def test_signs_and_size(self):
+        for name, source, _ in read_package():
+            self.assertRegex(source, r"\A[ -~\n]*\Z", name)
+            self.assertLessEqual(len(source.splitlines()), 400, name)
+            for number, row in enumerate(source.splitlines(), start=1):
+                self.assertLessEqual(len(row), 120, (name, number))
+                self.assertIsNone(BANNED_WORDS.search(row), (name, number))
+
+    def test_functions_are_short(self):
+        for name, node in walk_package(ast.FunctionDef):
+            self.assertLessEqual(node.end_lineno - node.lineno + 1, 40, (name, node.name))
+
+
+class Forms(unittest.TestCase):
+    def test_imports(self):
+        for name, node in walk_package(ast.ImportFrom):
+            self.assertEqual(node.level, 0, name)
+            self.assertRegex(node.module, r"\A(court\.[a-z_]+|__future__)\Z", name)
+            self.assertNotIn("*", [alias.name for alias in node.names], name)
+
+    def test_nodes(self):
+        self.assertEqual(walk_package(*BANNED_NODES), [])
+
+    def test_statements(self):
+        for name, node in walk_package(ast.For, ast.While):
+            self.assertEqual(node.orelse, [], (name, node.lineno))
+        for name, node in walk_package(ast.Try):
+            self.assertEqual(node.finalbody, [], (name, node.lineno))
+        for name, node in walk_package(ast.Assign):
+            self.assertEqual(len(node.targets), 1, (name, node.lineno))
+        for name, node in walk_package(ast.FunctionDef, ast.ClassDef):
+            self.assertEqual(node.decorator_list, [], (name, node.lineno))
+
+    def test_comprehensions(self):
+        for name, node in walk_package(ast.ListComp):
+            self.assertEqual(len(node.generators), 1, (name, node.lineno))
+            self.assertLessEqual(len(node.generators[0].ifs), 1, (name, node.lineno))
+
+    def test_values(self):
+        for name, node in walk_package(ast.Constant):
+            self.assertIsInstance(node.value, (int, str, type(None)), (name, node.lineno))
+            self.assertNotIn("%", str(node.value), (name, node.lineno))
+        for name, node in walk_package(ast.FormattedValue):
+            self.assertIsInstance(node.value, ast.Name, (name, node.lineno))
+            self.assertIsNone(node.format_spec, (name, node.lineno))
+
+    def test_is_stands_beside_none_true_and_false(self):
+        for name, node in walk_package(ast.Compare):
+            for sign, side in zip(node.ops, node.comparators):
+                if isinstance(sign, (ast.Is, ast.IsNot)):
+                    self.assertIsInstance(side, ast.Constant, (name, node.lineno))
+                    self.assertIn(repr(side.value), ("None", "True", "False"), (name, node.lineno))
+
+    def test_names(self):
+        for name, node in walk_package(ast.Name):
+            self.assertRegex(node.id, r"\A[A-Za-z][A-Za-z0-9_]*\Z", (name, node.lineno))
+            self.assertNotIn(node.id, BANNED_NAMES, (name, node.lineno))
+            if hasattr(builtins, node.id):
+                self.assertIn(node.id, OWN_NAMES, (name, node.lineno))
+                self.assertIsInstance(node.ctx, ast.Load, (name, node.lineno))
+        for name, node in walk_package(ast.arg):
+            self.assertFalse(hasattr(builtins, node.arg), (name, node.lineno))
+        for name, node in walk_package(ast.FunctionDef):
+            if node.name not in DUNDERS:
+                self.assertRegex(node.name, r"\A[A-Za-z][A-Za-z0-9_]*\Z", (name, node.lineno))
+
+    def test_methods(self):
+        own = set()
+        for _, node in walk_package(ast.ClassDef):
+            own.update(part.name for part in node.body if isinstance(part, ast.FunctionDef))
+        for name, node in walk_package(ast.Call):
+            if isinstance(node.func, ast.Attribute):
+                self.assertIn(node.func.attr, METHODS | own, (name, node.lineno))
+
+
+if __name__ == "__main__":
+    unittest.main()
