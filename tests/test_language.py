@@ -68,6 +68,60 @@ class Files(unittest.TestCase):
 
 
 class Forms(unittest.TestCase):
+    def test_the_top_of_a_module(self):
+        plain = (ast.Constant, ast.List, ast.Tuple, ast.Dict, ast.Load)
+        for name, _, tree in read_package():
+            self.assertIsInstance(tree.body[0], ast.Expr, name)
+            self.assertIsInstance(tree.body[0].value, ast.Constant, name)
+            for part in tree.body[1:]:
+                where = (name, part.lineno)
+                self.assertIsInstance(part, (ast.ImportFrom, ast.FunctionDef, ast.ClassDef, ast.Assign), where)
+                if isinstance(part, ast.Assign):
+                    for inner in ast.walk(part.value):
+                        self.assertIsInstance(inner, plain, where)
+                        if inner is not part.value:
+                            self.assertNotIsInstance(inner, (ast.List, ast.Dict), where)
+
+    def test_class_bodies(self):
+        for name, node in walk_package(ast.ClassDef):
+            self.assertLessEqual(len(node.bases), 1, (name, node.lineno))
+            for part in node.body:
+                self.assertIsInstance(part, (ast.FunctionDef, ast.Pass), (name, part.lineno))
+
+    def test_a_name_is_not_a_method_and_a_value(self):
+        methods = set()
+        for _, node in walk_package(ast.ClassDef):
+            methods.update(part.name for part in node.body if isinstance(part, ast.FunctionDef))
+        stored = [(name, node) for name, node in walk_package(ast.Attribute) if isinstance(node.ctx, ast.Store)]
+        for name, node in stored:
+            self.assertNotIn(node.attr, methods, (name, node.lineno))
+
+    def test_no_two_files_draw_from_one_another(self):
+        drawn = {}
+        for name, node in walk_package(ast.ImportFrom):
+            drawn.setdefault(name, set()).add(node.module.rpartition(".")[2] + ".py")
+        for name in drawn:
+            reached = set()
+            ahead = set(drawn[name])
+            while ahead:
+                other = ahead.pop()
+                reached.add(other)
+                ahead |= drawn.get(other, set()) - reached
+            self.assertNotIn(name, reached)
+
+    def test_sets_are_asked_on_the_spot(self):
+        for name, _, tree in read_package():
+            fine = []
+            for node in ast.walk(tree):
+                if isinstance(node, ast.Compare):
+                    fine.extend([node.left, *node.comparators])
+                if isinstance(node, ast.Call) and isinstance(node.func, ast.Name) and node.func.id in ("sorted", "len"):
+                    fine.extend(node.args)
+            places = {(part.lineno, part.col_offset) for part in fine}
+            for node in ast.walk(tree):
+                if isinstance(node, ast.Call) and isinstance(node.func, ast.Name) and node.func.id == "set":
+                    self.assertIn((node.lineno, node.col_offset), places, (name, node.lineno))
+
     def test_imports(self):
         for name, node in walk_package(ast.ImportFrom):
             self.assertEqual(node.level, 0, name)
