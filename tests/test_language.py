@@ -18,6 +18,9 @@ METHODS = set(
     " items join keys ljust lower lstrip partition pop remove replace reverse rfind rjust rpartition rsplit rstrip"
     " setdefault split splitlines startswith strip update upper values zfill bit_length".split()
 )
+WALKED = set("zip enumerate reversed range items keys values".split())
+WALKERS = set("list tuple dict sorted sum any all enumerate zip min max".split())
+CHANGES = set("append clear extend insert pop remove reverse setdefault update".split())
 DUNDERS = {"__init__", "__eq__", "__repr__", "__str__", "__len__"}
 NODES = (
     "With AsyncWith Match Delete Global Nonlocal Assert Yield YieldFrom Await AsyncFor AsyncFunctionDef TryStar Div"
@@ -173,6 +176,52 @@ class Forms(unittest.TestCase):
         for name, node in walk_package(ast.FunctionDef):
             if node.name not in DUNDERS:
                 self.assertRegex(node.name, r"\A[A-Za-z][A-Za-z0-9_]*\Z", (name, node.lineno))
+
+    def test_locals_are_not_called_like_imports_or_classes(self):
+        for name, _, tree in read_package():
+            taken = {node.name for node in ast.walk(tree) if isinstance(node, ast.ClassDef)}
+            for node in ast.walk(tree):
+                if isinstance(node, ast.ImportFrom):
+                    taken.update(alias.asname or alias.name for alias in node.names)
+            for node in ast.walk(tree):
+                if isinstance(node, ast.arg):
+                    self.assertNotIn(node.arg, taken, (name, node.lineno))
+                if isinstance(node, ast.Name) and isinstance(node.ctx, ast.Store):
+                    self.assertNotIn(node.id, taken, (name, node.lineno))
+
+    def test_walks_are_walked_at_once(self):
+        for name, _, tree in read_package():
+            fine = []
+            for node in ast.walk(tree):
+                if isinstance(node, (ast.For, ast.comprehension)):
+                    fine.append(node.iter)
+                if isinstance(node, ast.Call) and ast.unparse(node.func) in WALKERS:
+                    fine.extend(node.args[:1])
+            for node in ast.walk(tree):
+                if isinstance(node, ast.Call) and ast.unparse(node.func).rpartition(".")[2] in WALKED:
+                    self.assertTrue(any(node is part for part in fine), (name, node.lineno))
+
+    def test_what_a_loop_walks_is_not_changed_in_it(self):
+        for name, loop in walk_package(ast.For):
+            walked = [ast.unparse(loop.iter)]
+            if isinstance(loop.iter, ast.Call) and ast.unparse(loop.iter.func) in WALKED:
+                walked.extend(ast.unparse(part) for part in loop.iter.args)
+            if isinstance(loop.iter, ast.Call) and isinstance(loop.iter.func, ast.Attribute):
+                walked.append(ast.unparse(loop.iter.func.value))
+            for node in [inner for part in loop.body for inner in ast.walk(part)]:
+                if isinstance(node, ast.Subscript) and isinstance(node.ctx, ast.Store):
+                    self.assertNotIn(ast.unparse(node.value), walked, (name, node.lineno))
+                if isinstance(node, ast.Call) and isinstance(node.func, ast.Attribute) and node.func.attr in CHANGES:
+                    self.assertNotIn(ast.unparse(node.func.value), walked, (name, node.lineno))
+
+    def test_keywords(self):
+        fine = {"sorted": ["key", "reverse"], "min": ["key", "default"], "max": ["key", "default"]}
+        fine.update({"sum": ["start"], "enumerate": ["start"], "zip": ["strict"]})
+        for name, node in walk_package(ast.Call):
+            called = ast.unparse(node.func)
+            if called in OWN_NAMES or called.rpartition(".")[2] in METHODS:
+                for word in node.keywords:
+                    self.assertIn(word.arg, fine.get(called, []), (name, node.lineno))
 
     def test_methods(self):
         own = set()
