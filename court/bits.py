@@ -28,6 +28,12 @@ def first_of(mask):
     return (mask & -mask).bit_length() - 1
 
 
+def last_of(mask):
+    if mask == 0:
+        return None
+    return mask.bit_length() - 1
+
+
 def shared(one, other):
     return one & other
 

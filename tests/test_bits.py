@@ -3,7 +3,7 @@
 import itertools
 import unittest
 
-from court.bits import either, first_of, has, less, mask_of, members, shared, size_of
+from court.bits import either, first_of, has, last_of, less, mask_of, members, shared, size_of
 
 LISTS = [[], [0], [200], [0, 200], [1, 2, 3], [3, 64, 63, 65, 128], list(range(201)), list(range(0, 201, 7))]
 
@@ -88,6 +88,14 @@ class Members(unittest.TestCase):
 
     def test_first_of_the_set_of_none_is_none(self):
         self.assertIsNone(first_of(0))
+
+    def test_last_is_the_greatest(self):
+        for numbers in LISTS:
+            if numbers:
+                self.assertEqual(last_of(mask_of(numbers)), max(numbers))
+        self.assertEqual(last_of(1), 0)
+        self.assertEqual(last_of(1 << 200), 200)
+        self.assertIsNone(last_of(0))
 
 
 class TwoSets(unittest.TestCase):

@@ -99,6 +99,46 @@ class Forms(unittest.TestCase):
         for name, node in stored:
             self.assertNotIn(node.attr, methods, (name, node.lineno))
 
+    def test_own_methods_and_values_are_not_called_like_those_of_python(self):
+        taken = {name for kind in (str, int, list, tuple, dict, set, bytes) for name in dir(kind)}
+        free = set("count index title find get join lower upper split strip copy add".split())
+        for name, node in walk_package(ast.Attribute):
+            if isinstance(node.ctx, ast.Store):
+                self.assertNotIn(node.attr, taken - free, (name, node.lineno))
+        for name, node in walk_package(ast.ClassDef):
+            for part in node.body:
+                if isinstance(part, ast.FunctionDef):
+                    self.assertNotIn(part.name, taken - METHODS - DUNDERS - {"add", "discard"}, (name, part.lineno))
+
+    def test_no_method_stands_twice_in_a_class(self):
+        for name, node in walk_package(ast.ClassDef):
+            methods = [part.name for part in node.body if isinstance(part, ast.FunctionDef)]
+            self.assertEqual(len(set(methods)), len(methods), (name, node.lineno))
+
+    def test_what_stands_at_the_top_is_only_read(self):
+        for name, _, tree in read_package():
+            kept = set()
+            for part in tree.body:
+                if isinstance(part, ast.Assign) and isinstance(part.value, (ast.List, ast.Dict)):
+                    kept.add(part.targets[0].id)
+            fine = []
+            for node in ast.walk(tree):
+                if isinstance(node, ast.Subscript) and isinstance(node.ctx, ast.Load):
+                    fine.append(node.value)
+                if isinstance(node, ast.Compare):
+                    fine.extend(node.comparators)
+                if isinstance(node, (ast.For, ast.comprehension)):
+                    fine.append(node.iter)
+                if isinstance(node, ast.Call) and ast.unparse(node.func) in ("len", "list", "dict", "sorted"):
+                    fine.extend(node.args)
+            for node in ast.walk(tree):
+                if isinstance(node, ast.Name) and node.id in kept and isinstance(node.ctx, ast.Load):
+                    self.assertTrue(any(node is part for part in fine), (name, node.lineno))
+
+    def test_errors_are_made_on_the_spot(self):
+        for name, node in walk_package(ast.Raise):
+            self.assertIsInstance(node.exc, ast.Call, (name, node.lineno))
+
     def test_no_two_files_draw_from_one_another(self):
         drawn = {}
         for name, node in walk_package(ast.ImportFrom):
